@@ -1,0 +1,1 @@
+"""Sumslips: slips in sums of any length, and the checks that see them."""
