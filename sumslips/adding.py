@@ -1,6 +1,7 @@
 """Adding: the result that a person writes who adds a sheet rightly or with slips."""
 
 from sumslips.deeds import is_deed
+from sumslips.doing import do_columns, do_sum, sum_taken
 from sumslips.errors import InvalidSlips
 from sumslips.integers import is_whole, place_value
 from sumslips.sheets import Sheet
@@ -49,57 +50,19 @@ class Written:
         return self._base == other._base and self._figures == other._figures and self._last == other._last
 
 
-def do_columns(base, columns, carry):
-    """The figures that columns write that are done one after another, and the carry then."""
-    figures = []
-    for column in columns:
-        total = sum(column) + carry
-        figures.append(total % base)
-        carry = total // base
-    return figures, carry
-
-
-def _replaced(column, row, figure):
-    return column[:row] + (figure,) + column[row + 1:]
-
-
-def _columns_done(base, columns, at, deed):
-    """The columns that a person does who slips at a column, as the person reads them."""
-    column = columns[at]
-    word = deed[0]
-    if word == "out":
-        return []
-    if word == "twice":
-        return [column, column]
-    if word == "swap":
-        return columns[at:at + 2]
-    if word == "read":
-        row = deed[1]
-        return [_replaced(column, row, (column[row] + deed[2]) % base)]
-    if word == "copy":
-        row = deed[1]
-        return [_replaced(column, row, columns[at - 1][row])]
-    return [column]
-
-
 def _do_slip(base, columns, at, carry, deed):
     """The figures that a slip at a column writes and the carry then, or None if it is not possible."""
     word = deed[0]
     if (word == "copy" and at == 0) or (word == "swap" and at + 1 == len(columns)):
         return None
-    figures, carry = do_columns(base, _columns_done(base, columns, at, deed), carry)
-    if word == "forget":
-        return (figures, 0) if carry > 0 else None
-    if word == "again":
-        return figures, carry + 1
-    if word == "off":
-        return [(figures[0] + deed[1]) % base], carry
     if word == "swap":
+        figures, carry = do_columns(base, columns[at:at + 2], carry)
         return figures[::-1], carry
-    return figures, carry
+    copied = columns[at - 1][deed[1]] if word == "copy" else None
+    return do_sum(base, sum_taken(base, columns[at], deed, copied), carry, deed)
 
 
-def _is_slip(sheet, low, value):
+def is_slip(sheet, low, value):
     """Whether a value of any kind is a tuple of a column from low on and a deed."""
     if not isinstance(value, tuple) or len(value) != 2:
         return False
@@ -114,7 +77,7 @@ def add_with(sheet, slips):
     carry = 0
     low = 0
     for index, item in enumerate(slips):
-        if not _is_slip(sheet, low, item):
+        if not is_slip(sheet, low, item):
             raise InvalidSlips(index)
         at, deed = item
         right, carry = do_columns(base, columns[low:at], carry)

@@ -108,3 +108,109 @@ def add(base, columns, slips):
     for right in columns[at:]:
         person.do(right)
     return person.figures, person.carry, person.value
+
+
+def value_of(base, columns):
+    """The right result."""
+    return sum(sum(column) * base ** i for i, column in enumerate(columns))
+
+
+def slips_of(kind, columns):
+    """The slips of a kind for a sheet with these columns, in the order of promise 9."""
+    found = []
+    for length in range(1, kind.most + 1):
+        for places in combinations(range(len(columns)), length):
+            for told in product(kind.deeds, repeat=length):
+                slips = list(zip(places, told))
+                try:
+                    add(kind.base, columns, slips)
+                except Refused:
+                    continue
+                found.append(slips)
+    return sorted(found, key=lambda slips: [(column, kind.deeds.index(deed)) for column, deed in slips])
+
+
+def standing(kind, lot, columns, slips):
+    """The standing behind columns that are done with these slips, from the words of promise 11; raises Refused."""
+    base = kind.base
+    done, waiting = columns, None
+    if slips and slips[-1] == (len(columns) - 1, ("swap",)):
+        done = columns[:-1]
+        figures, carry, _ = add(base, done, slips[:-1])
+        total = sum(columns[-1]) + carry
+        waiting, carry = total % base, total // base
+    else:
+        figures, carry, _ = add(base, columns, slips)
+    i, w = len(columns), len(figures)
+    told = figures if waiting is None else figures + [waiting]
+    e = sum(figure * base ** p for p, figure in enumerate(told)) + carry * base ** len(told) - value_of(base, columns)
+    unit = base ** min(i, w)
+    copied = sorted(deed[1] for deed in kind.deeds if deed[0] == "copy")
+    return (
+        kind.most - len(slips),
+        waiting,
+        tuple(columns[-1][row] for row in copied) if columns else None,
+        carry,
+        w - i,
+        None if e % unit else e // unit,
+        tuple((e % r, base ** i % r, base ** w % r) for r in lot),
+    )
+
+
+def standings(kind, lot, most):
+    """All standings that can come, at most so many and one more, each with columns and slips that lead to it."""
+    found = {standing(kind, lot, [], []): ([], [])}
+    waiting = list(found)
+    for told in waiting:
+        before, slips = found[told]
+        for column in all_columns(kind.base, kind.rows):
+            columns = before + [column]
+            for more in [[]] + [[(len(before), deed)] for deed in kind.deeds]:
+                if len(slips) + len(more) > kind.most:
+                    continue
+                try:
+                    led = standing(kind, lot, columns, slips + more)
+                except Refused:
+                    continue
+                if led not in found:
+                    found[led] = columns, slips + more
+                    waiting.append(led)
+                    if len(found) > most:
+                        return found
+    return found
+
+
+def gaps(kind, columns):
+    """A tuple (slips, value of the result less value of the sheet) for each of the slips of a kind, in their order."""
+    right = value_of(kind.base, columns)
+    return [(slips, add(kind.base, columns, slips)[2] - right) for slips in slips_of(kind, columns)]
+
+
+def sees(lot, gap):
+    """Whether a lot sees a result that differs by so much."""
+    return any(gap % r != 0 for r in lot)
+
+
+def is_missed(lot, gap):
+    return gap != 0 and not sees(lot, gap)
+
+
+def first(kind, many, wanted):
+    """The first sheet of at most so many columns, as a list, and its first slips with a wanted gap, or None."""
+    for length in range(many + 1):
+        for columns in product(all_columns(kind.base, kind.rows), repeat=length):
+            for slips, gap in gaps(kind, list(columns)):
+                if wanted(gap):
+                    return list(columns), slips
+    return None
+
+
+def count(kind, lot, many):
+    """The three numbers of promise 15, by trying."""
+    told = [0, 0, 0]
+    for columns in product(all_columns(kind.base, kind.rows), repeat=many):
+        for _, gap in gaps(kind, list(columns)):
+            told[0] += 1
+            told[1] += gap == 0
+            told[2] += is_missed(lot, gap)
+    return tuple(told)

@@ -1,12 +1,17 @@
 """The section "The interface": its names stand where it lists them, and its examples hold."""
 
 import ast
+import inspect
 import pathlib
 import unittest
 
-from sumslips.adding import add_with
+from sumslips.adding import add_right, add_with
+from sumslips.counts import counts
+from sumslips.finding import closed_list, is_closed, missed
 from sumslips.kinds import Kind
+from sumslips.lots import least_lots, parting
 from sumslips.sheets import Sheet
+from sumslips.standings import beginning, behind, standing_of
 
 PACKAGE = pathlib.Path(__file__).resolve().parent.parent / "sumslips"
 
@@ -30,6 +35,24 @@ LISTED = {
     "kinds.py": {
         "Kind": ["base", "rows", "deeds", "most", "__contains__", "__or__", "__and__", "within", "__eq__"],
     },
+    "standings.py": {"beginning": None, "behind": None, "standing_of": None},
+    "finding.py": {"missed": None, "closed_list": None, "is_closed": None},
+    "lots.py": {"least_lots": None, "parting": None},
+    "counts.py": {"counts": None},
+}
+
+ARGUMENTS = {
+    add_right: "(sheet)",
+    add_with: "(sheet, slips)",
+    beginning: "(kind, lot)",
+    behind: "(kind, lot, standing, column, deed)",
+    standing_of: "(kind, lot, sheet, slips)",
+    missed: "(kind, lot)",
+    closed_list: "(kind, lot)",
+    is_closed: "(kind, lot, standings)",
+    least_lots: "(kind, lot)",
+    parting: "(kind, lot, other)",
+    counts: "(kind, lot, *, columns)",
 }
 
 
@@ -46,6 +69,10 @@ class InterfaceTest(unittest.TestCase):
                     for method in methods or []:
                         self.assertIn(method, held)
 
+    def test_arguments(self):
+        for function, told in ARGUMENTS.items():
+            self.assertEqual(str(inspect.signature(function)), told, function.__name__)
+
     def test_examples(self):
         written = add_with(Sheet(10, 2, [(7, 5), (1, 0)]), [(0, ("forget",))])
         self.assertEqual((written.figures, written.last), ([2, 1], 0))
@@ -53,6 +80,8 @@ class InterfaceTest(unittest.TestCase):
         sheet = Sheet(10, 2, [(0, 0)])
         slips = [(0, ("off", 9))]
         self.assertIn(slips[0][1], kind)
+        self.assertEqual(missed(kind, [9]), (sheet, slips))
+        self.assertIsNone(missed(kind, [11]))
         self.assertEqual(add_with(sheet, slips).figures, [9])
         self.assertEqual((add_with(sheet, slips) - sheet) % 9, 0)
         self.assertNotEqual((add_with(sheet, slips) - sheet) % 11, 0)
@@ -64,6 +93,19 @@ class InterfaceTest(unittest.TestCase):
         self.assertEqual(Kind(kind.base, kind.rows, kind.deeds, kind.most), kind)
         sheet[0] = sheet[1]
         self.assertEqual(sheet.columns, [(1, 0), (1, 0)])
+
+    def test_answers_may_be_passed_again(self):
+        kind = Kind(10, 2, [("off", 9)], 1)
+        sheet, slips = missed(kind, [9])
+        self.assertEqual((add_with(sheet, slips) - sheet) % 9, 0)
+        end = standing_of(kind, [9], sheet, slips)
+        self.assertEqual(behind(kind, [9], beginning(kind, [9]), sheet[0], slips[0][1]), end)
+        self.assertIs(is_closed(kind, [11], closed_list(kind, [11])), True)
+        part = least_lots(kind, [9, 11, 7])[0]
+        self.assertEqual(closed_list(kind, part), closed_list(kind, [11]))
+        sheet, slips = parting(kind, [9], part)
+        self.assertEqual(standing_of(kind, part, sheet, slips)[0], 0)
+        self.assertEqual(counts(kind, part, columns=len(sheet)), (100, 0, 0))
 
 
 if __name__ == "__main__":
