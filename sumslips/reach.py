@@ -43,7 +43,7 @@ class Reach:
         self.nexts = []
         self._number(self._steps.start())
         while len(self.nexts) < len(self.standings):
-            self.nexts.append(self._next_of(self.standings[len(self.nexts)]))
+            self.nexts.append(self._next_of(len(self.nexts)))
 
     def _number(self, standing):
         """The number of a standing, a new one if it has none."""
@@ -54,14 +54,19 @@ class Reach:
             self.standings.append(standing)
         return self._numbers[standing]
 
-    def _next_of(self, standing):
+    def choices_at(self, number):
+        """The choices at a standing: None alone where no slip may be made."""
+        return self.choices if self._steps.may_slip(self.standings[number]) else self.choices[:1]
+
+    def _next_of(self, number):
         found = {}
-        for deed, groups in self.choices:
+        standing = self.standings[number]
+        for deed, groups in self.choices_at(number):
             for column, many in groups:
                 led = self._steps.lead(standing, column, deed)
                 if led is not None:
-                    number = self._number(led)
-                    found[number] = found.get(number, 0) + many
+                    after = self._number(led)
+                    found[after] = found.get(after, 0) + many
         return found
 
     def lead(self, number, column, deed):

@@ -31,7 +31,7 @@ def _able(reach, layers, wanted):
 
 def _leads(reach, number, column):
     """The numbers to which a column leads, rightly done or with a deed."""
-    told = [reach.lead(number, column, deed) for deed, _ in reach.choices]
+    told = [reach.lead(number, column, deed) for deed, _ in reach.choices_at(number)]
     return [after for after in told if after is not None]
 
 
@@ -39,7 +39,7 @@ def _first_column(reach, here, good):
     """The first column that leads from one of these numbers to a good one."""
     first = None
     for number in here:
-        for deed, groups in reach.choices:
+        for deed, groups in reach.choices_at(number):
             for column, _ in groups:
                 if first is not None and column >= first:
                     break

@@ -21,12 +21,17 @@ class Steps:
         """The figures of a column that a copy at the next one may take."""
         return tuple([column[row] for row in self._copied])
 
+    def may_slip(self, standing):
+        """Whether a slip is left at a standing and no figure waits there."""
+        left, waiting = standing[:2]
+        return left > 0 and waiting is None
+
     def _do(self, standing, column, deed):
         """The figures that the column gives and the carry then, or None if the deed is not possible."""
-        left, waiting, before, carry = standing[:4]
+        before, carry = standing[2:4]
         copied = None
         if deed is not None:
-            if left == 0 or waiting is not None:
+            if not self.may_slip(standing):
                 return None
             if deed[0] == "copy":
                 if before is None:
