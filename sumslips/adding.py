@@ -1,7 +1,7 @@
 """Adding: the result that a person writes who adds a sheet rightly or with slips."""
 
 from sumslips.deeds import is_deed
-from sumslips.doing import do_columns, do_sum, sum_taken
+from sumslips.doing import do_columns, do_slip
 from sumslips.errors import InvalidSlips
 from sumslips.integers import is_whole, place_value
 from sumslips.sheets import Sheet
@@ -50,18 +50,6 @@ class Written:
         return self._base == other._base and self._figures == other._figures and self._last == other._last
 
 
-def _do_slip(base, columns, at, carry, deed):
-    """The figures that a slip at a column writes and the carry then, or None if it is not possible."""
-    word = deed[0]
-    if (word == "copy" and at == 0) or (word == "swap" and at + 1 == len(columns)):
-        return None
-    if word == "swap":
-        figures, carry = do_columns(base, columns[at:at + 2], carry)
-        return figures[::-1], carry
-    copied = columns[at - 1][deed[1]] if word == "copy" else None
-    return do_sum(base, sum_taken(base, columns[at], deed, copied), carry, deed)
-
-
 def is_slip(sheet, low, value):
     """Whether a value of any kind is a tuple of a column from low on and a deed."""
     if not isinstance(value, tuple) or len(value) != 2:
@@ -81,13 +69,11 @@ def add_with(sheet, slips):
             raise InvalidSlips(index)
         at, deed = item
         right, carry = do_columns(base, columns[low:at], carry)
-        slipped = _do_slip(base, columns, at, carry, deed)
-        if slipped is None:
+        done = do_slip(base, columns, at, carry, deed)
+        if done is None:
             raise InvalidSlips(index)
-        wrong, carry = slipped
+        wrong, carry, low = done
         figures = figures + right + wrong
-        # A swap does the next column too.
-        low = at + 2 if deed[0] == "swap" else at + 1
     right, carry = do_columns(base, columns[low:], carry)
     return Written(base, figures + right, carry)
 

@@ -41,3 +41,20 @@ def do_columns(base, columns, carry):
         right, carry = do_sum(base, sum(column), carry, None)
         figures.extend(right)
     return figures, carry
+
+
+def do_slip(base, columns, at, carry, deed):
+    """The figures that a slip at a column writes, the carry then and the column behind; None if not possible."""
+    word = deed[0]
+    if (word == "copy" and at == 0) or (word == "swap" and at + 1 == len(columns)):
+        return None
+    if word == "swap":
+        # A swap does the next column too.
+        figures, carry = do_columns(base, columns[at:at + 2], carry)
+        return figures[::-1], carry, at + 2
+    copied = columns[at - 1][deed[1]] if word == "copy" else None
+    done = do_sum(base, sum_taken(base, columns[at], deed, copied), carry, deed)
+    if done is None:
+        return None
+    figures, carry = done
+    return figures, carry, at + 1

@@ -1,5 +1,8 @@
 """Integers, and figures at their places."""
 
+MOST_BASE = 12
+MOST_ROWS = 4
+
 
 def is_whole(value, low, high):
     """Whether a value of any kind is an integer from low to high."""
@@ -9,12 +12,12 @@ def is_whole(value, low, high):
 
 def is_base(value):
     """Whether a value of any kind is the base of a sheet or of a kind."""
-    return is_whole(value, 2, 12)
+    return is_whole(value, 2, MOST_BASE)
 
 
 def is_rows(value):
     """Whether a value of any kind is the number of rows of a sheet or of a kind."""
-    return is_whole(value, 1, 4)
+    return is_whole(value, 1, MOST_ROWS)
 
 
 def power(base, exponent):

@@ -1,5 +1,6 @@
 """Kinds: the deeds that a person may do, and how many of them."""
 
+from sumslips.alike import check_alike
 from sumslips.deeds import deeds_of, is_deed
 from sumslips.errors import InvalidKind, NotAlike
 from sumslips.integers import is_base, is_rows, is_whole, power
@@ -89,8 +90,7 @@ class Kind:
 
 def _joined(one, other, deeds, most):
     """The kind made of two kinds, with these deeds."""
-    if one.base != other.base or one.rows != other.rows:
-        raise NotAlike("the kinds differ in their base or number of rows")
+    check_alike(one, other)
     if not 1 <= len(deeds) <= MOST_DEEDS:
         raise NotAlike("there is no deed or more than 8")
     return Kind(one.base, one.rows, deeds, most)

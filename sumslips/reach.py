@@ -54,6 +54,10 @@ class Reach:
             self.standings.append(standing)
         return self._numbers[standing]
 
+    def number_of(self, standing):
+        """The number of a standing that can come."""
+        return self._numbers[standing]
+
     def choices_at(self, number):
         """The choices at a standing: None alone where no slip may be made."""
         return self.choices if self._steps.may_slip(self.standings[number]) else self.choices[:1]

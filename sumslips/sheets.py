@@ -1,6 +1,7 @@
 """Sheets: the columns of figures that are added."""
 
-from sumslips.errors import InvalidColumn, InvalidSheet, NotAlike
+from sumslips.alike import check_alike
+from sumslips.errors import InvalidColumn, InvalidSheet
 from sumslips.integers import is_base, is_rows, is_whole, place_value
 
 
@@ -73,8 +74,7 @@ class Sheet:
     def __add__(self, other):
         if not isinstance(other, Sheet):
             return NotImplemented
-        if self._base != other._base or self._rows != other._rows:
-            raise NotAlike("the sheets differ in their base or number of rows")
+        check_alike(self, other)
         return Sheet(self._base, self._rows, self._columns + other._columns)
 
     def _place(self):

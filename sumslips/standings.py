@@ -1,8 +1,9 @@
 """Standings: where a person is who has done some columns of a sheet, with some slips in them."""
 
 from sumslips.adding import is_slip
+from sumslips.alike import check_alike
 from sumslips.divisors import check_lot
-from sumslips.errors import InvalidSlips, NotAlike, NotPossible
+from sumslips.errors import InvalidSlips, NotPossible
 from sumslips.steps import Steps
 
 
@@ -26,8 +27,7 @@ def behind(kind, lot, standing, column, deed):
 def standing_of(kind, lot, sheet, slips):
     """The standing behind a sheet that is done with these slips."""
     check_lot(lot)
-    if kind.base != sheet.base or kind.rows != sheet.rows:
-        raise NotAlike("the kind and the sheet differ in their base or number of rows")
+    check_alike(kind, sheet)
     steps = Steps(kind, lot)
     columns = sheet.columns
     standing = steps.start()

@@ -214,3 +214,38 @@ def count(kind, lot, many):
             told[1] += gap == 0
             told[2] += is_missed(lot, gap)
     return tuple(told)
+
+
+def explain(kind, columns, fits):
+    """The slips of a kind, in their order, whose figures and last carry fit."""
+    return [slips for slips in slips_of(kind, columns) if fits(*add(kind.base, columns, slips)[:2])]
+
+
+def written_value(base, figures, last):
+    """The value that is written."""
+    return sum(figure * base ** p for p, figure in enumerate(figures + [last]))
+
+
+def more_slips(kind, low, high, most):
+    """All lists of at most so many tuples (column, deed of the kind) from column low on and below high, in order."""
+    found = []
+    for length in range(most + 1):
+        for places in combinations(range(low, high), length):
+            for told in product(kind.deeds, repeat=length):
+                found.append(list(zip(places, told)))
+    return sorted(found, key=lambda slips: [(column, kind.deeds.index(deed)) for column, deed in slips])
+
+
+def next_missed(kind, lot, columns, slips, many):
+    """At most so many columns that follow, and slips at them, such that the result is missed: the first, or None."""
+    for length in range(many + 1):
+        for follow in product(all_columns(kind.base, kind.rows), repeat=length):
+            after = columns + list(follow)
+            for more in more_slips(kind, len(columns), len(after), kind.most - len(slips)):
+                try:
+                    value = add(kind.base, after, slips + more)[2]
+                except Refused:
+                    continue
+                if is_missed(lot, value - value_of(kind.base, after)):
+                    return list(follow), more
+    return None

@@ -4,8 +4,10 @@ import unittest
 
 from sumslips.counts import counts
 from sumslips.errors import InvalidLot, SlipError
+from sumslips.explaining import slips_shown
 from sumslips.finding import closed_list, is_closed, missed
 from sumslips.kinds import Kind
+from sumslips.ledger import Ledger
 from sumslips.lots import least_lots, parting
 from sumslips.sheets import Sheet
 from sumslips.standings import beginning, behind, standing_of
@@ -24,6 +26,8 @@ CALLS = {
     "parting, first lot": lambda lot: parting(KIND, lot, [3]),
     "parting, other lot": lambda lot: parting(KIND, [3], lot),
     "counts": lambda lot: counts(KIND, lot, columns=1),
+    "slips_shown": lambda lot: slips_shown(KIND, Sheet(2, 1, [(1,)]), lot, [0] * 6),
+    "Ledger": lambda lot: Ledger(KIND, lot),
 }
 
 # More than 3,000 standings can come for this kind and [465].
@@ -41,6 +45,7 @@ LATE = {
     "parting, first lot": lambda lot: parting(WIDE, lot, [465]),
     "parting, other lot": lambda lot: parting(WIDE, [465], lot),
     "counts": lambda lot: counts(WIDE, lot, columns=0),
+    "slips_shown": lambda lot: slips_shown(KIND, Sheet(3, 1, [(1,)]), lot, [0] * 6),
 }
 
 NO_DIVISORS = (1, 0, -1, -9, -10 ** 30, True, False, None, "", "9", b"9", 9.0, 2.5, 9j, (), (9,), [], [9], {}, {9: 9},

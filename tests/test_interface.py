@@ -5,13 +5,17 @@ import inspect
 import pathlib
 import unittest
 
-from sumslips.adding import add_right, add_with
+from sumslips.adding import Written, add_right, add_with
+from sumslips.console import Console
 from sumslips.counts import counts
+from sumslips.explaining import slips_for, slips_shown
 from sumslips.finding import closed_list, is_closed, missed
 from sumslips.kinds import Kind
+from sumslips.ledger import Ledger
 from sumslips.lots import least_lots, parting
 from sumslips.sheets import Sheet
 from sumslips.standings import beginning, behind, standing_of
+from sumslips.texts import read_sheet, read_slips, show_sheet, show_slips
 
 PACKAGE = pathlib.Path(__file__).resolve().parent.parent / "sumslips"
 
@@ -25,7 +29,7 @@ LISTED = {
         )
     },
     "sheets.py": {
-        "Sheet": ["base", "rows", "columns", "value", "__len__", "__getitem__", "__setitem__", "cut", "__add__"] + ORDER,
+        "Sheet": ["base", "rows", "columns", "value", "__len__", "__getitem__", "__setitem__", "cut", "__add__", *ORDER],
     },
     "adding.py": {
         "Written": ["base", "figures", "last", "value", "rest", "__sub__", "__eq__"],
@@ -39,6 +43,12 @@ LISTED = {
     "finding.py": {"missed": None, "closed_list": None, "is_closed": None},
     "lots.py": {"least_lots": None, "parting": None},
     "counts.py": {"counts": None},
+    "explaining.py": {"slips_for": None, "slips_shown": None},
+    "ledger.py": {
+        "Ledger": ["sheet", "slips", "standing", "waits", "__len__", "put", "back", "result", "next_missed"],
+    },
+    "texts.py": {"show_sheet": None, "show_slips": None, "read_sheet": None, "read_slips": None},
+    "console.py": {"Console": ["execute"]},
 }
 
 ARGUMENTS = {
@@ -53,6 +63,32 @@ ARGUMENTS = {
     least_lots: "(kind, lot)",
     parting: "(kind, lot, other)",
     counts: "(kind, lot, *, columns)",
+    slips_for: "(kind, sheet, written)",
+    slips_shown: "(kind, sheet, lot, shown)",
+    show_sheet: "(sheet)",
+    show_slips: "(slips)",
+    read_sheet: "(text)",
+    read_slips: "(text)",
+    Sheet: "(base, rows, columns)",
+    Sheet.cut: "(self, low, high)",
+    Written: "(base, figures, last)",
+    Written.rest: "(self, r)",
+    Kind: "(base, rows, deeds, most)",
+    Kind.within: "(self, other)",
+    Ledger: "(kind, lot)",
+    Ledger.put: "(self, column, *, deed=None)",
+    Ledger.back: "(self, *, count=1)",
+    Ledger.result: "(self)",
+    Ledger.next_missed: "(self)",
+    Console: "()",
+    Console.execute: "(self, command)",
+}
+
+PROPERTIES = {
+    Sheet: ["base", "rows", "columns", "value"],
+    Written: ["base", "figures", "last", "value"],
+    Kind: ["base", "rows", "deeds", "most"],
+    Ledger: ["sheet", "slips", "standing", "waits"],
 }
 
 
@@ -72,6 +108,11 @@ class InterfaceTest(unittest.TestCase):
     def test_arguments(self):
         for function, told in ARGUMENTS.items():
             self.assertEqual(str(inspect.signature(function)), told, function.__name__)
+
+    def test_properties(self):
+        for held, names in PROPERTIES.items():
+            for name in names:
+                self.assertIsInstance(vars(held)[name], property)
 
     def test_examples(self):
         written = add_with(Sheet(10, 2, [(7, 5), (1, 0)]), [(0, ("forget",))])
