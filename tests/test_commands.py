@@ -32,8 +32,8 @@ NO_COMMANDS = (
     "lot 9.0", "lot a", "lot 9a", "lot 9,11", "lot 9, 11", "lot [9]", "lot - 9", "lot 9 -", "lot --", "lot - -",
     "lot none", "lot 1_1", "lot \u0669", "lots 9", "Lot 9", "lot 9\n",
     # put FIGURES, put FIGURES DEED
-    "put", "put ", "put  7", "put 7 ", "put 7  swap", "put 7 swap ", "put -", "put A", "put c", "put 7 5", "put 7,5",
-    "put 75,", "put (7,5)", "put 7 -", "put 7 none", "put 7 Swap", "put 7 swap out", "put 7 swap, out", "put 7 off",
+    "put", "put ", "put  7", "put 7 ", "put 7  swap", "put 7 swap ", "put -", "put A", "put c", "put x", "put 7 5",
+    "put 7,5", "put 75,", "put (7,5)", "put 7 -", "put 7 none", "put 7 Swap", "put 7 swap out", "put 7 swap, out", "put 7 off",
     "put 7 off 0", "put 7 off 12", "put 7 off 01", "put 7 off 1 1", "put 7 read 4 1", "put 7 read 0 12", "put 7 copy 4",
     "put 7 copy", "put 7 0 swap", "put swap 7", "put swap", "put 7.", "put +7", "put \u0667", "Put 7", "put 7\n",
     "put 7 read  0 1", "put 7 swap 0",

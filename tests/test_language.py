@@ -3,6 +3,7 @@
 import ast
 import builtins
 import pathlib
+import re
 import unittest
 
 PACKAGE = pathlib.Path(__file__).resolve().parent.parent / "sumslips"
@@ -40,6 +41,17 @@ SPECIAL |= {f"__{name}__" for name in (
     "init", "eq", "repr", "str", "len", "enter", "exit", "call", "iter", "neg", "pos", "invert", "abs", "bool",
     "contains", "getitem", "setitem",
 )}
+
+# L17: nowhere; not as a name or a method; not as a word of a file.
+NOWHERE = set("mro elements open input law version_info with_traceback add_note register".split())
+NO_NAMES = set(
+    "attrgetter breakpoint builtins compile copyright credits delattr dir eval exec exit gc globals help id importlib "
+    "license locals methodcaller os quit vars sys".split()
+)
+NO_WORDS = set(
+    "typing typing_extensions enum Enum IntEnum StrEnum Flag IntFlag Generic Protocol ABC ABCMeta namedtuple "
+    "NamedTuple TypedDict TYPE_CHECKING abstractmethod dataclass overload contextmanager metaclass Meta".split()
+)
 
 BARRED = (
     ast.AsyncFunctionDef, ast.AsyncFor, ast.AsyncWith, ast.Await, ast.Div, ast.Import, ast.TryStar, ast.MatMult,
@@ -125,6 +137,30 @@ class LanguageTest(unittest.TestCase):
             for node in nodes(file, ast.FunctionDef):
                 if node.name.startswith("__"):
                     self.assertIn(node.name, SPECIAL)
+
+    def test_names_that_are_not_used(self):
+        for file in files():
+            tree = ast.parse(file.read_text())
+            names = {node.id for node in ast.walk(tree) if isinstance(node, ast.Name)}
+            names |= {node.arg for node in ast.walk(tree) if isinstance(node, ast.arg)}
+            names |= {node.name for node in ast.walk(tree) if isinstance(node, (ast.FunctionDef, ast.ClassDef))}
+            self.assertEqual(names & (NOWHERE | NO_NAMES), set())
+            held = {node.attr for node in ast.walk(tree) if isinstance(node, ast.Attribute)}
+            held |= {node.arg for node in ast.walk(tree) if isinstance(node, ast.keyword)}
+            self.assertEqual(held & NOWHERE, set())
+            self.assertEqual(set(re.findall(r"[A-Za-z_]+", file.read_text())) & NO_WORDS, set())
+            for name in names | held:
+                self.assertRegex(name, r"^(_|_?[A-Za-z][A-Za-z0-9_]*|__[a-z]+__)$")
+
+    def test_a_name_that_is_imported_means_nothing_else(self):
+        for file in files():
+            taken = {alias.name for node in nodes(file, ast.ImportFrom) for alias in node.names}
+            taken |= {node.name for node in nodes(file, ast.ClassDef)}
+            for node in nodes(file, ast.Name):
+                if not isinstance(node.ctx, ast.Load):
+                    self.assertNotIn(node.id, taken)
+            for node in nodes(file, ast.arg):
+                self.assertNotIn(node.arg, taken)
 
     def test_decorators(self):
         for file in files():
