@@ -33,10 +33,10 @@ NO_COMMANDS = (
     "lot none", "lot 1_1", "lot \u0669", "lots 9", "Lot 9", "lot 9\n",
     # put FIGURES, put FIGURES DEED
     "put", "put ", "put  7", "put 7 ", "put 7  swap", "put 7 swap ", "put -", "put A", "put c", "put x", "put 7 5",
-    "put 7,5", "put 75,", "put (7,5)", "put 7 -", "put 7 none", "put 7 Swap", "put 7 swap out", "put 7 swap, out", "put 7 off",
-    "put 7 off 0", "put 7 off 12", "put 7 off 01", "put 7 off 1 1", "put 7 read 4 1", "put 7 read 0 12", "put 7 copy 4",
-    "put 7 copy", "put 7 0 swap", "put swap 7", "put swap", "put 7.", "put +7", "put \u0667", "Put 7", "put 7\n",
-    "put 7 read  0 1", "put 7 swap 0",
+    "put 7,5", "put 75,", "put (7,5)", "put 7 -", "put 7 none", "put 7 Swap", "put 7 swap out", "put 7 swap, out",
+    "put 7 off", "put 7 off 0", "put 7 off 12", "put 7 off 01", "put 7 off 1 1", "put 7 read 4 1", "put 7 read 0 12",
+    "put 7 copy 4", "put 7 copy", "put 7 0 swap", "put swap 7", "put swap", "put 7.", "put +7", "put \u0667", "Put 7",
+    "put 7\n", "put 7 read  0 1", "put 7 swap 0",
     # back N, count N
     "back", "back ", "back  1", "back 1 ", "back 01", "back 00", "back -1", "back +1", "back 1.0", "back a", "back 1 1",
     "back 201", "back 202", "back 999", "back 1000", "back 10000000000000000000000", "back 0200", "back -", "Back 1",

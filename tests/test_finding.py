@@ -214,7 +214,8 @@ class ClosedListTest(unittest.TestCase):
             self.assertIs(is_closed(kind, lot, [beginning(kind, lot)] * 3000), False)
 
     def test_a_list_with_a_missed_end(self):
-        for kind, lot in ((Kind(10, 1, [SWAP], 1), [9]), (Kind(2, 1, [OUT], 1), []), (Kind(10, 2, [("off", 9)], 1), [9])):
+        off = Kind(10, 2, [("off", 9)], 1)
+        for kind, lot in ((Kind(10, 1, [SWAP], 1), [9]), (Kind(2, 1, [OUT], 1), []), (off, [9])):
             with self.subTest(deeds=kind.deeds, lot=lot):
                 self.assertIsNone(closed_list(kind, lot))
                 told = list(oracle.standings(kind, lot, 3000))

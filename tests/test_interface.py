@@ -29,7 +29,9 @@ LISTED = {
         )
     },
     "sheets.py": {
-        "Sheet": ["base", "rows", "columns", "value", "__len__", "__getitem__", "__setitem__", "cut", "__add__", *ORDER],
+        "Sheet": [
+            "base", "rows", "columns", "value", "cut", "__len__", "__getitem__", "__setitem__", "__add__", *ORDER,
+        ],
     },
     "adding.py": {
         "Written": ["base", "figures", "last", "value", "rest", "__sub__", "__eq__"],

@@ -147,7 +147,8 @@ class PartingTest(unittest.TestCase):
     def test_lots_that_are_alike(self):
         kind = Kind(10, 2, [("off", 9)], 1)
         for lot, other in (
-            ([], []), ([9], [9]), ([9], [3]), ([3], [9]), ([9, 3], [3]), ([11], [7]), ([9, 11], [11]), ([11, 9], [9, 11]),
+            ([], []), ([9], [9]), ([9], [3]), ([3], [9]), ([9, 3], [3]), ([11], [7]), ([9, 11], [11]),
+            ([11, 9], [9, 11]),
             ([7], [3, 11]),
         ):
             with self.subTest(lot=lot, other=other):
